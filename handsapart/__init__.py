@@ -1,0 +1,1 @@
+"""Handsapart: one machine done by several hands."""
