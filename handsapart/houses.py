@@ -1,7 +1,7 @@
 """Houses: some hands, and letters that belong to them."""
 
-from handsapart.checks import is_pair, is_rising_list_below, is_whole
-from handsapart.errors import NoHouse, NoRow
+from handsapart.checks import is_number_below, is_pair, is_rising_list_below, is_whole
+from handsapart.errors import NoHand, NoHouse, NoRow
 
 FEWEST_HANDS = 2
 MOST_HANDS = 4
@@ -41,6 +41,11 @@ def need_house(house):
         raise NoHouse("this is no house")
 
 
+def need_hand(house, hand):
+    if not is_number_below(hand, house[0]):
+        raise NoHand("this is no hand of the house")
+
+
 def letters_of(house):
     return "".join([entry[0] for entry in house[1]])
 
@@ -70,8 +75,11 @@ def are_free(house, one, other):
     need_letter(house, one)
     need_letter(house, other)
     # A letter has at least one hand in common with itself, so it is not free of itself.
-    others = hands_of(house, other)
-    return not any([hand in others for hand in hands_of(house, one)])
+    return not is_hand_in_both(hands_of(house, one), hands_of(house, other))
+
+
+def is_hand_in_both(hands, others):
+    return any([hand in others for hand in hands])
 
 
 def is_row(house, thing):

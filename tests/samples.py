@@ -8,6 +8,12 @@ ONE_LETTER = (2, [("q", [1])])
 TWO_LETTERS = (2, [("b", [0]), ("y", [1])])
 WIDE = (4, [("a", [0]), ("c", [1, 2]), ("d", [3]), ("m", [0, 1, 2, 3]), ("y", [2]), ("z", [0, 3])])
 HOUSES = [HOUSE, ONE_LETTER, TWO_LETTERS, WIDE]
+ALL_FREE = (4, [("a", [0]), ("b", [1]), ("c", [2]), ("d", [3])])
+NONE_FREE = (3, [("a", [1]), ("b", [0, 1]), ("c", [1, 2]), ("d", [0, 1, 2])])
+RING = (4, [("a", [0, 1]), ("b", [2, 3]), ("c", [1, 2]), ("d", [0, 3])])
+IDLE_HAND = (4, [("f", [1]), ("g", [3]), ("h", [1, 3])])
+MANY_FREE = (4, [("a", [0]), ("b", [1]), ("c", [2]), ("d", [3]), ("e", [0]), ("f", [1, 2])])
+HEAP_HOUSES = HOUSES + [ALL_FREE, NONE_FREE, RING, IDLE_HAND, MANY_FREE]
 
 BIG = 10 ** 39
 
@@ -26,6 +32,70 @@ def nest(depth):
     return thing
 
 
+SIX = [("a", [0]), ("b", [0]), ("c", [0]), ("d", [0]), ("e", [0]), ("f", [0])]
+
+NO_HOUSES = [
+    # of another kind, or of another length
+    [2, [("a", [0])]], (2,), (2, [("a", [0])], []), ([("a", [0])], 2), ([("a", [0])],), "hands 2\na 0",
+    # hands
+    (1, [("a", [0])]), (0, [("a", [0])]), (-2, [("a", [0])]), (5, [("a", [0])]), (BIG, [("a", [0])]),
+    (True, [("a", [0])]), (False, [("a", [0])]), (None, [("a", [0])]), ("2", [("a", [0])]), ([2], [("a", [0])]),
+    ((2,), [("a", [0])]), ([0, 1], [("a", [0])]),
+    # letters as a whole
+    (2, []), (2, ()), (2, (("a", [0]),)), (2, ("a", [0])), (2, None), (2, "a"), (2, 1), (2, SIX + [("g", [0])]),
+    # an entry
+    (2, [["a", [0]]]), (2, [("a",)]), (2, [("a", [0], [1])]), (2, [()]), (2, ["a"]), (2, [None]), (2, [0]),
+    (2, [([0], "a")]), (2, ["ab"]), (2, [("a", [0]), None]), (2, [True]),
+    # its letter
+    (2, [("", [0])]), (2, [("ab", [0])]), (2, [("A", [0])]), (2, [("Z", [0])]), (2, [("0", [0])]), (2, [("-", [0])]),
+    (2, [(" ", [0])]), (2, [("`", [0])]), (2, [("{", [0])]), (2, [("\n", [0])]), (2, [(0, [0])]), (2, [(None, [0])]),
+    (2, [(True, [0])]), (2, [(["a"], [0])]), (2, [(("a",), [0])]), (2, [("a", [0]), ("B", [0])]),
+    # the order of letters
+    (2, [("b", [0]), ("a", [1])]), (2, [("a", [0]), ("a", [0])]), (2, [("a", [0]), ("a", [1])]),
+    (2, [("a", [0]), ("c", [0]), ("b", [0])]), (2, [("a", [0]), ("b", [0]), ("b", [1])]),
+    (2, [("a", [0]), ("c", [0]), ("a", [1])]),
+    # its hands
+    (2, [("a", [])]), (2, [("a", ())]), (2, [("a", (0,))]), (2, [("a", 0)]), (2, [("a", None)]), (2, [("a", "0")]),
+    (2, [("a", [2])]), (2, [("a", [-1])]), (2, [("a", [0, 2])]), (3, [("a", [3])]), (4, [("a", [4])]),
+    (4, [("a", [0, 1, 2, 3, 4])]), (2, [("a", [BIG])]), (2, [("a", [-BIG])]), (2, [("a", [1, 0])]),
+    (2, [("a", [0, 0])]), (2, [("a", [0, 1, 1])]), (4, [("a", [0, 2, 1])]), (4, [("a", [0, 1, 2, 3, 3])]),
+    (2, [("a", [True])]), (2, [("a", [False])]), (2, [("a", [0, True])]), (2, [("a", [False, 1])]),
+    (2, [("a", [None])]), (2, [("a", ["0"])]), (2, [("a", [[0]])]), (2, [("a", [(0,)])]), (2, [("a", [0, None])]),
+    (2, [("a", [0]), ("b", [])]), (2, [("a", [0]), ("b", [2])]),
+]
+
+NO_LETTERS = ["", "ab", "aa", "abc", "d", "A", "-", " ", "0", 0, 1, True, False, None, ["a"], ("a",), [], (), nest(16)]
+NO_ROWS = [
+    "d", "abd", "dab", "aAb", "a b", "a ", " ", "-", "ab\n", "\n", "0", 0, 1, BIG, True, False, None, [], (), ["a"],
+    ("a",), ["a", "b"], ("a", "b"), [""], nest(16),
+]
+# None is a hand of a house of two.
+NO_HANDS = [True, False, None, -1, -2, 2, 3, 4, BIG, -BIG, "0", "1", "", "a", [], (), [0], (0,), [0, 1], nest(16)]
+
+# Of HOUSE.
+NO_MACHINES = [
+    # of another kind, or of another length
+    [[[0, 0, 0]], [0]], ([[0, 0, 0]],), ([[0, 0, 0]], [0], []), ([0], [[0, 0, 0]]), "room 0 0 0\ngood 0",
+    # moves as a whole
+    ([], []), ([], [0]), ((), []), (([0, 0, 0],), [0]), (None, [0]), (1, [0]), ("0", [0]),
+    ([[0, 0, 0]] * 31, []), ([[0, 0, 0]] * 31, [30]), ([[30, 0, 0]] + [[0, 0, 0]] * 30, []),
+    # the moves of a room
+    ([(0, 0, 0)], [0]), ([[0, 0]], [0]), ([[0, 0, 0, 0]], [0]), ([[]], [0]), ([0], [0]), ([None], [0]),
+    (["000"], [0]), ([[0, 0, 0], [0, 0]], [0]), ([[0, 0, 0], (0, 0, 0)], [0]), ([[0, 0, 0], None], [0]),
+    # a move
+    ([[1, 0, 0]], [0]), ([[0, 0, 1]], [0]), ([[0, -1, 0]], [0]), ([[0, 0, 0], [0, 0, 2]], [0]), ([[0, BIG, 0]], [0]),
+    ([[0, -BIG, 0]], [0]), ([[0, False, 0]], [0]), ([[0, 0, 0], [True, 0, 0]], [0]), ([[0, None, 0]], [0]),
+    ([[0, "0", 0]], [0]), ([[0, [0], 0]], [0]), ([[0, (0,), 0]], [0]),
+    # good rooms
+    ([[0, 0, 0]], None), ([[0, 0, 0]], ()), ([[0, 0, 0]], (0,)), ([[0, 0, 0]], 0), ([[0, 0, 0]], "0"),
+    ([[0, 0, 0]], True), ([[0, 0, 0]], [1]), ([[0, 0, 0]], [-1]), ([[0, 0, 0]], [BIG]), ([[0, 0, 0]], [0, 0]),
+    ([[0, 0, 0]], [0, 1]), ([[0, 0, 0]], [False]), ([[0, 0, 0]] * 2, [True]), ([[0, 0, 0]] * 2, [0, True]),
+    ([[0, 0, 0]] * 2, [1, 0]), ([[0, 0, 0]] * 2, [0, 1, 1]), ([[0, 0, 0]] * 2, [0, 1, 2]),
+    ([[0, 0, 0]] * 3, [0, 2, 1]), ([[0, 0, 0]], [None]), ([[0, 0, 0]], ["0"]), ([[0, 0, 0]], [[0]]),
+    ([[0, 0, 0]] * 30, [30]),
+]
+
+
 def letters(house):
     return [entry[0] for entry in house[1]]
 
@@ -35,6 +105,52 @@ def rows_up_to(house, length):
     for count in range(length + 1):
         for row in itertools.product(letters(house), repeat=count):
             yield "".join(row)
+
+
+def free(house, one, other):
+    hands = dict(house[1])
+    return not set(hands[one]) & set(hands[other])
+
+
+def exchanged(row, place):
+    return row[:place] + row[place + 1] + row[place] + row[place + 2:]
+
+
+def free_places(house, row):
+    """The places at which two free neighbours begin."""
+    return [place for place in range(len(row) - 1) if free(house, row[place], row[place + 1])]
+
+
+def heap_with_distances(house, row):
+    """All rows alike, each with the fewest exchanges that lead to it."""
+    distances = {row: 0}
+    rows = [row]
+    for one in rows:
+        for place in free_places(house, one):
+            other = exchanged(one, place)
+            if other not in distances:
+                distances[other] = distances[one] + 1
+                rows.append(other)
+    return distances
+
+
+def random_row(chance, house, length):
+    return "".join(chance.choice(letters(house)) for place in range(length))
+
+
+def random_rows(house, count, length):
+    """So many rows of so many letters, the same ones in each run."""
+    chance = random.Random(length)
+    return [random_row(chance, house, length) for i in range(count)]
+
+
+def shuffled(chance, house, row, times):
+    """A row alike, by so many exchanges of free neighbours."""
+    for i in range(times):
+        places = free_places(house, row)
+        if places:
+            row = exchanged(row, chance.choice(places))
+    return row
 
 
 def walk(house, machine, room, row):

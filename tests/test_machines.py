@@ -5,8 +5,8 @@ import unittest
 from handsapart.errors import NoHouse, NoMachine, NoRoom, NoRow
 from handsapart.machines import is_machine, least, led, lets, told_apart
 from tests.samples import (
-    BIG, HOUSE, HOUSES, ODD_THINGS, ONE_LETTER, TWO_LETTERS, WIDE, all_machines, lists_in, nest,
-    random_machines, renumbered, rows_up_to, walk,
+    BIG, HOUSE, HOUSES, NO_HOUSES, NO_MACHINES, NO_ROWS, ODD_THINGS, ONE_LETTER, TWO_LETTERS, WIDE, all_machines,
+    lists_in, nest, random_machines, renumbered, rows_up_to, walk,
 )
 
 # Lets rows by that have an odd number of letters a; rooms 2 and 3 do as 0 and 1, and no row leads to 4.
@@ -15,32 +15,9 @@ LEAST_ODD_A = ([[1, 0, 0], [0, 1, 1]], [1])
 # Lets by the row of 29 letters and all longer ones.
 CHAIN = ([[min(room + 1, 29)] for room in range(30)], [29])
 
-NO_MACHINES = [
-    # of another kind, or of another length
-    [[[0, 0, 0]], [0]], ([[0, 0, 0]],), ([[0, 0, 0]], [0], []), ([0], [[0, 0, 0]]), "room 0 0 0\ngood 0",
-    # moves as a whole
-    ([], []), ([], [0]), ((), []), (([0, 0, 0],), [0]), (None, [0]), (1, [0]), ("0", [0]),
-    ([[0, 0, 0]] * 31, []), ([[0, 0, 0]] * 31, [30]), ([[30, 0, 0]] + [[0, 0, 0]] * 30, []),
-    # the moves of a room
-    ([(0, 0, 0)], [0]), ([[0, 0]], [0]), ([[0, 0, 0, 0]], [0]), ([[]], [0]), ([0], [0]), ([None], [0]),
-    (["000"], [0]), ([[0, 0, 0], [0, 0]], [0]), ([[0, 0, 0], (0, 0, 0)], [0]), ([[0, 0, 0], None], [0]),
-    # a move
-    ([[1, 0, 0]], [0]), ([[0, 0, 1]], [0]), ([[0, -1, 0]], [0]), ([[0, 0, 0], [0, 0, 2]], [0]), ([[0, BIG, 0]], [0]),
-    ([[0, -BIG, 0]], [0]), ([[0, False, 0]], [0]), ([[0, 0, 0], [True, 0, 0]], [0]), ([[0, None, 0]], [0]),
-    ([[0, "0", 0]], [0]), ([[0, [0], 0]], [0]), ([[0, (0,), 0]], [0]),
-    # good rooms
-    ([[0, 0, 0]], None), ([[0, 0, 0]], ()), ([[0, 0, 0]], (0,)), ([[0, 0, 0]], 0), ([[0, 0, 0]], "0"),
-    ([[0, 0, 0]], True), ([[0, 0, 0]], [1]), ([[0, 0, 0]], [-1]), ([[0, 0, 0]], [BIG]), ([[0, 0, 0]], [0, 0]),
-    ([[0, 0, 0]], [0, 1]), ([[0, 0, 0]], [False]), ([[0, 0, 0]] * 2, [True]), ([[0, 0, 0]] * 2, [0, True]),
-    ([[0, 0, 0]] * 2, [1, 0]), ([[0, 0, 0]] * 2, [0, 1, 1]), ([[0, 0, 0]] * 2, [0, 1, 2]),
-    ([[0, 0, 0]] * 3, [0, 2, 1]), ([[0, 0, 0]], [None]), ([[0, 0, 0]], ["0"]), ([[0, 0, 0]], [[0]]),
-    ([[0, 0, 0]] * 30, [30]),
-]
 NO_ROOMS = [
     True, False, None, -1, -5, 5, 6, BIG, -BIG, "0", "", "a", [0], (0,), [], (), [1, 2], nest(16),
 ]
-NO_ROWS = ["d", "abd", "A", " ", "-", "0", 0, True, False, None, [], (), ["a"], ("a", "b"), nest(16)]
-NO_HOUSES = ODD_THINGS + [(1, HOUSE[1]), (5, HOUSE[1]), (2, HOUSE[1][::-1]), list(HOUSE), (2, tuple(HOUSE[1]))]
 
 
 def same_rows(house, one, other):
@@ -104,7 +81,7 @@ class TestIsMachine(unittest.TestCase):
             self.assertIs(is_machine(HOUSE, thing), False, thing)
 
     def test_no_house_comes_first(self):
-        for house in NO_HOUSES:
+        for house in NO_HOUSES + ODD_THINGS:
             for thing in [ODD_A, None]:
                 with self.assertRaises(NoHouse, msg=repr(house)):
                     is_machine(house, thing)
@@ -132,7 +109,7 @@ class TestRefusals(unittest.TestCase):
         ]
 
     def test_no_house_is_ahead_of_all_else(self):
-        for house in NO_HOUSES:
+        for house in NO_HOUSES + ODD_THINGS:
             for machine, room, row in [(ODD_A, 0, "a"), (None, None, None)]:
                 for ask in self.asked(house, machine, room, row):
                     with self.assertRaises(NoHouse, msg=repr(house)):
