@@ -153,6 +153,36 @@ def shuffled(chance, house, row, times):
     return row
 
 
+def looks_alike(house, one, other):
+    """Alike, by looking at each two letters that are not free: their order says it all."""
+    for first in letters(house):
+        for second in letters(house):
+            if not free(house, first, second):
+                if [x for x in one if x in first + second] != [x for x in other if x in first + second]:
+                    return False
+    return sorted(one) == sorted(other)
+
+
+def is_first_of_its_heap(house, row):
+    """No letter can be brought ahead of a greater one: a row is its heap's first just then."""
+    for i in range(len(row)):
+        for j in range(i + 1, len(row)):
+            if row[j] < row[i] and all(free(house, row[j], letter) for letter in row[i:j]):
+                return False
+    return True
+
+
+def chained(house, row):
+    """For each deed, as a set, all deeds from which a chain leads to it, and itself."""
+    below = []
+    for j in range(len(row)):
+        below.append({j})
+        for i in range(j):
+            if not free(house, row[i], row[j]):
+                below[j] |= below[i]
+    return below
+
+
 def walk(house, machine, room, row):
     for letter in row:
         room = machine[0][room][letters(house).index(letter)]

@@ -32,7 +32,7 @@ def first_torn(house, machine, length):
     return None
 
 
-def counting_machine(house, sizes, good):
+def counting_machine(sizes, good):
     """Keeps for each letter how often it came, modulo its size: no order matters."""
     rooms = [()]
     for size in sizes:
@@ -75,8 +75,10 @@ class TestJudged(unittest.TestCase):
 
     def test_free_letters_that_commute(self):
         self.assertIsNone(judged(HOUSE, BOTH_ODD))
-        self.assertIsNone(judged(MANY_FREE, counting_machine(MANY_FREE, [2, 3, 1, 2, 2, 1], lambda room: sum(room) == 3)))
-        self.assertIsNone(judged(RING, counting_machine(RING, [3, 3, 3, 1], lambda room: room[0] == room[2])))
+        machine = counting_machine([2, 3, 1, 2, 2, 1], lambda room: sum(room) == 3)
+        self.assertIsNone(judged(MANY_FREE, machine))
+        machine = counting_machine([3, 3, 3, 1], lambda room: room[0] == room[2])
+        self.assertIsNone(judged(RING, machine))
 
     def test_rooms_that_no_row_leads_to(self):
         moves = BOTH_ODD[0] + [[5, 6, 6], [6, 7, 6], [6, 6, 6], [6, 6, 6]]
@@ -133,7 +135,7 @@ class TestJudged(unittest.TestCase):
 
     def test_machines_nearly_untorn(self):
         # One move of a machine in which nothing is torn goes elsewhere.
-        base = counting_machine(TWO_LETTERS, [2, 2], lambda room: room == (1, 1))
+        base = counting_machine([2, 2], lambda room: room == (1, 1))
         answers = []
         for room in range(4):
             for letter in range(2):
@@ -177,7 +179,7 @@ class TestJudged(unittest.TestCase):
             ([[(room + 1) % 30] * 6 for room in range(30)], [29]),
             ([[min(room + 1, 29)] * 6 for room in range(30)], [29]),
             ([[min(room + 1, 29)] + [room] * 5 for room in range(30)], [29]),
-            counting_machine(MANY_FREE, [5, 3, 2, 1, 1, 1], lambda room: room == (4, 2, 1, 0, 0, 0)),
+            counting_machine([5, 3, 2, 1, 1, 1], lambda room: room == (4, 2, 1, 0, 0, 0)),
         ]:
             judged(MANY_FREE, machine)
         self.assertLess(time.process_time() - begun, 20)

@@ -8,7 +8,7 @@ from handsapart.houses import is_row
 from handsapart.rows import alike, exchanges, least_row, steps
 from tests.samples import (
     ALL_FREE, HEAP_HOUSES, HOUSE, MANY_FREE, NO_HOUSES, NO_ROWS, NONE_FREE, ODD_THINGS, RING, WIDE, exchanged, free,
-    free_places, heap_with_distances, random_rows, rows_up_to, shuffled,
+    free_places, heap_with_distances, is_first_of_its_heap, random_rows, rows_up_to, shuffled,
 )
 
 # Houses, each with a length up to which all rows are gone through.
@@ -22,15 +22,6 @@ def inversions(row, other):
         places[(letter, other[:place].count(letter))] = place
     moved = [places[(letter, row[:place].count(letter))] for place, letter in enumerate(row)]
     return sum(moved[i] > moved[j] for j in range(len(moved)) for i in range(j))
-
-
-def is_first_of_its_heap(house, row):
-    """No letter can be brought ahead of a greater one: a row is its heap's first just then."""
-    for i in range(len(row)):
-        for j in range(i + 1, len(row)):
-            if row[j] < row[i] and all(free(house, row[j], letter) for letter in row[i:j]):
-                return False
-    return True
 
 
 class HeapCase(unittest.TestCase):
