@@ -15,9 +15,15 @@ def is_pair(thing):
 
 
 def is_list_of_numbers_below(thing, bound):
-    if not isinstance(thing, list):
-        return False
-    return all([is_number_below(number, bound) for number in thing])
+    return isinstance(thing, list) and are_numbers_below(thing, bound)
+
+
+def is_tuple_of_numbers_below(thing, bound):
+    return isinstance(thing, tuple) and are_numbers_below(thing, bound)
+
+
+def are_numbers_below(things, bound):
+    return all([is_number_below(number, bound) for number in things])
 
 
 def is_rising_list_below(thing, bound):

@@ -41,6 +41,10 @@ def need_house(house):
         raise NoHouse("this is no house")
 
 
+def house_copied(house):
+    return (house[0], [(letter, list(hands)) for letter, hands in house[1]])
+
+
 def need_hand(house, hand):
     if not is_number_below(hand, house[0]):
         raise NoHand("this is no hand of the house")

@@ -39,8 +39,25 @@ OUT_NAMES = """
     eval exec super globals locals hasattr delattr compile os sys gc
 """.split()
 TWO_UNDERSCORES = ["__init__", "__eq__", "__repr__", "__str__", "__len__"]
-WALKED = ["zip", "enumerate", "reversed", "range"]
+WALKED = ["zip", "enumerate", "reversed", "range", "items", "keys", "values"]
+CHANGES = ["append", "clear", "extend", "insert", "pop", "remove", "reverse", "setdefault", "update"]
+OF_PYTHONS_VALUES = {
+    name for thing in [str, int, list, dict, set, bytes, tuple] for name in dir(thing) if not name.startswith("__")
+}
 WALKERS = ["list", "tuple", "dict", "sorted", "sum", "any", "all", "enumerate", "zip", "min", "max"]
+
+
+def called(node):
+    """The name by which a call calls: a function's or a method's."""
+    return node.func.attr if isinstance(node.func, ast.Attribute) else getattr(node.func, "id", None)
+
+
+def walked_by(node):
+    """What a loop walks, itself or through enumerate, zip, reversed, items and their like."""
+    if isinstance(node, ast.Call) and called(node) in WALKED:
+        parts = node.args if isinstance(node.func, ast.Name) else [node.func.value]
+        return [name for part in parts for name in walked_by(part)]
+    return [ast.unparse(node)]
 
 
 def own_names():
@@ -180,15 +197,79 @@ class TestForm(unittest.TestCase):
                     self.assertIn(ast.unparse(right), ["None", "True", "False"], where)
 
     def test_walks_are_walked_at_once(self):
-        walked = []
-        for where, node in self.each_node((ast.For, ast.comprehension)):
-            walked.append(ast.dump(node.iter, include_attributes=True))
-        for where, node in self.each_node(ast.Call):
-            if isinstance(node.func, ast.Name) and node.func.id in WALKERS:
-                walked += [ast.dump(part, include_attributes=True) for part in node.args]
-        for where, node in self.each_node(ast.Call):
-            if isinstance(node.func, ast.Name) and node.func.id in WALKED:
-                self.assertIn(ast.dump(node, include_attributes=True), walked, where)
+        for file in FILES:
+            tree = ast.parse(file.read_text())
+            walked = []
+            for node in ast.walk(tree):
+                if isinstance(node, (ast.For, ast.comprehension)):
+                    walked.append(node.iter)
+                if isinstance(node, ast.Call) and called(node) in WALKERS:
+                    walked += node.args
+            for node in ast.walk(tree):
+                if isinstance(node, ast.Call) and called(node) in WALKED:
+                    self.assertTrue(any(node is one for one in walked), f"{file.name}:{node.lineno}")
+
+    def test_what_a_loop_walks_is_not_changed_in_it(self):
+        for where, node in self.each_node(ast.For):
+            walked = walked_by(node.iter)
+            for part in node.body:
+                for inner in ast.walk(part):
+                    if isinstance(inner, ast.Call) and called(inner) in CHANGES:
+                        self.assertNotIn(ast.unparse(inner.func.value), walked, where)
+                    if isinstance(inner, ast.Subscript) and isinstance(inner.ctx, ast.Store):
+                        self.assertNotIn(ast.unparse(inner.value), walked, where)
+
+    def test_sets_are_asked_on_the_spot(self):
+        for file in FILES:
+            tree = ast.parse(file.read_text())
+            asked = []
+            for node in ast.walk(tree):
+                if isinstance(node, ast.Compare):
+                    asked += [node.left] + node.comparators
+                if isinstance(node, ast.Call) and called(node) in ["sorted", "len"] and not node.keywords:
+                    asked += node.args
+            for node in ast.walk(tree):
+                if isinstance(node, ast.Set) or isinstance(node, ast.Call) and called(node) in ["set", "frozenset"]:
+                    self.assertTrue(any(node is one for one in asked), f"{file.name}:{node.lineno}")
+
+    def test_no_name_is_a_method_here_and_a_value_there(self):
+        methods, values = set(), set()
+        for where, node in self.each_node(ast.ClassDef):
+            own = [part.name for part in node.body if isinstance(part, ast.FunctionDef)]
+            self.assertEqual(len(own), len(set(own)), where)
+            methods |= set(own)
+        for where, node in self.each_node(ast.Attribute):
+            if isinstance(node.ctx, ast.Store):
+                values.add(node.attr)
+        self.assertEqual(methods & values, set())
+        self.assertEqual((methods | values) & OF_PYTHONS_VALUES, set())
+
+    def test_what_stands_at_the_top_of_a_file(self):
+        for file in FILES:
+            tree = ast.parse(file.read_text())
+            kept = []
+            for node in tree.body[1:]:
+                self.assertIsInstance(node, (ast.ImportFrom, ast.FunctionDef, ast.ClassDef, ast.Assign), file.name)
+                if isinstance(node, ast.Assign):
+                    kept.append(ast.unparse(node.targets[0]))
+                    for part in ast.walk(node.value):
+                        self.assertNotIsInstance(part, (ast.Call, ast.Set), f"{file.name}:{node.lineno}")
+                        if part is not node.value:
+                            self.assertNotIsInstance(part, (ast.List, ast.Dict), f"{file.name}:{node.lineno}")
+            self.assertEqual(len(kept), len(set(kept)), file.name)
+            for node in ast.walk(tree):
+                if isinstance(node, ast.Call) and called(node) in CHANGES:
+                    self.assertNotIn(ast.unparse(node.func.value), kept, f"{file.name}:{node.lineno}")
+
+    def test_powers_are_written_out(self):
+        for where, node in self.each_node(ast.BinOp):
+            if isinstance(node.op, ast.Pow):
+                self.assertIsInstance(node.right, ast.Constant, where)
+                self.assertLessEqual(node.right.value, 64, where)
+
+    def test_assignments_name_one_thing(self):
+        for where, node in self.each_node(ast.Assign):
+            self.assertIsInstance(node.targets[0], (ast.Name, ast.Attribute, ast.Subscript), where)
 
     def test_errors_are_raised_on_the_spot_and_taken_by_name(self):
         for where, node in self.each_node(ast.Raise):

@@ -5,79 +5,11 @@ import unittest
 
 from handsapart.errors import NoHand, NoHouse, NoRow
 from handsapart.news import newer, news_behind, no_news, stock
+from tests.reckoned import Reckoned
 from tests.samples import (
-    ALL_FREE, BIG, HEAP_HOUSES, HOUSE, IDLE_HAND, NO_HANDS, NO_HOUSES, NO_LETTERS, NONE_FREE, ODD_THINGS, RING, WIDE,
-    chained, letters, random_row, random_rows, rows_up_to, shuffled,
+    ALL_FREE, BIG, GOSSIP, HOUSE, IDLE_HAND, LINE, NEWS_HOUSES, NO_HANDS, NO_HOUSES, NO_LETTERS, NONE_FREE, ODD_THINGS,
+    RING, THREE, WIDE, letters, random_row, random_rows, rows_up_to, shuffled,
 )
-
-GOSSIP = (4, [("a", [0, 1]), ("b", [1, 2]), ("c", [2, 3]), ("d", [0, 3]), ("e", [0, 2]), ("f", [1, 3])])
-THREE = (3, [("a", [0]), ("b", [0, 1]), ("c", [1, 2]), ("d", [0, 2]), ("e", [2])])
-LINE = (4, [("a", [0]), ("b", [0, 1]), ("c", [1, 2]), ("d", [2, 3]), ("e", [3])])
-NEWS_HOUSES = HEAP_HOUSES + [GOSSIP, THREE, LINE]
-
-
-class Reckoned:
-    """News by the deeds of a row and their pasts, as they stand in the row."""
-
-    def __init__(self, house, row):
-        self.hands = range(house[0])
-        self.own = dict(house[1])
-        self.row = row
-        self.newest = [[self.newest_in(past, hand) for hand in self.hands] for past in chained(house, row)]
-        # What a hand did last among the first deeds, however many: all that it knows lies below it.
-        self.last = [[None] * house[0]]
-        for place, letter in enumerate(row):
-            self.last.append([place if hand in self.own[letter] else self.last[-1][hand] for hand in self.hands])
-        self.names = []
-        self.news_of_deeds = {None: self.news_below(None)}
-        for place, letter in enumerate(row):
-            self.names.append((letter, self.least_number(place, letter)))
-            self.news_of_deeds[place] = self.news_below(place)
-
-    def newest_in(self, deeds, hand):
-        return max([deed for deed in deeds if hand in self.own[self.row[deed]]], default=None)
-
-    def by(self, deed, hand):
-        return None if deed is None else self.newest[deed][hand]
-
-    def first(self, hand, size, q):
-        return self.by(self.last[size][hand], q)
-
-    def second(self, hand, size, q, r):
-        return self.by(self.first(hand, size, q), r)
-
-    def news_below(self, deed):
-        """Of a hand that did this deed last."""
-        thirds = []
-        for q in self.hands:
-            seconds = []
-            for r in self.hands:
-                second = self.by(self.by(deed, q), r)
-                seconds.append(tuple(self.named(self.by(second, s)) for s in self.hands))
-            thirds.append(tuple(seconds))
-        return tuple(thirds)
-
-    def named(self, deed):
-        return None if deed is None else self.names[deed]
-
-    def least_number(self, size, letter):
-        used = set()
-        for hand in self.own[letter]:
-            for seconds in self.news(hand, size):
-                for firsts in seconds:
-                    used |= set(firsts)
-        number = 0
-        while (letter, number) in used:
-            number += 1
-        return number
-
-    def news(self, hand, size):
-        return self.news_of_deeds[self.last[size][hand]]
-
-    def in_use(self, size):
-        deeds = {self.second(p, size, q, r) for p in self.hands for q in self.hands for r in self.hands}
-        deeds |= {self.first(p, size, q) for p in self.hands for q in self.hands}
-        return deeds - {None}
 
 
 def told_along(house, row):
