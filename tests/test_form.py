@@ -70,6 +70,12 @@ def own_names():
     return names
 
 
+def top_names(tree):
+    """What a file's top binds: functions, classes and plain values."""
+    names = [node.name for node in tree.body if isinstance(node, (ast.FunctionDef, ast.ClassDef))]
+    return names + [node.targets[0].id for node in tree.body if isinstance(node, ast.Assign)]
+
+
 def bound_names(tree):
     for node in ast.walk(tree):
         if isinstance(node, (ast.FunctionDef, ast.ClassDef)):
@@ -149,7 +155,7 @@ class TestForm(unittest.TestCase):
             self.assertEqual(node.level, 0, where)
             self.assertRegex(node.module, r"^handsapart\.\w+$", where)
             source = ast.parse((PACKAGE / (node.module.split(".")[1] + ".py")).read_text())
-            defined = [name for name, part in bound_names(source) if part in source.body]
+            defined = top_names(source)
             for alias in node.names:
                 self.assertIn(alias.name, defined, where)
                 self.assertIsNone(alias.asname, where)
@@ -260,6 +266,30 @@ class TestForm(unittest.TestCase):
             for node in ast.walk(tree):
                 if isinstance(node, ast.Call) and called(node) in CHANGES:
                     self.assertNotIn(ast.unparse(node.func.value), kept, f"{file.name}:{node.lineno}")
+
+    def test_lists_and_dicts_of_a_files_top_are_only_read(self):
+        kept = []
+        for file in FILES:
+            for node in ast.parse(file.read_text()).body:
+                if isinstance(node, ast.Assign) and isinstance(node.value, (ast.List, ast.Dict)):
+                    kept.append(node.targets[0].id)
+        for file in FILES:
+            tree = ast.parse(file.read_text())
+            read = []
+            for node in ast.walk(tree):
+                if isinstance(node, ast.Subscript) and isinstance(node.ctx, ast.Load):
+                    read.append(node.value)
+                if isinstance(node, ast.Compare):
+                    read += node.comparators
+                if isinstance(node, (ast.For, ast.comprehension)):
+                    read.append(node.iter)
+                if isinstance(node, ast.Call) and called(node) in ["len", "list", "dict", "sorted"]:
+                    read += node.args
+                if isinstance(node, ast.Attribute) and node.attr in ["get", "items", "keys", "values", "index", "count"]:
+                    read.append(node.value)
+            for node in ast.walk(tree):
+                if isinstance(node, ast.Name) and node.id in kept and isinstance(node.ctx, ast.Load):
+                    self.assertTrue(any(node is one for one in read), f"{file.name}:{node.lineno}")
 
     def test_powers_are_written_out(self):
         for where, node in self.each_node(ast.BinOp):
