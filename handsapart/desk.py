@@ -1,8 +1,7 @@
 """The desk: it keeps a house, a machine and its hands, is told rows of text, and answers with texts."""
 
-from handsapart.errors import NoText, NoWord
+from handsapart.errors import NoRow, NoWord
 from handsapart.hands import Hands
-from handsapart.houses import is_small_letter
 from handsapart.judging import judged
 from handsapart.machines import least, lets
 from handsapart.news import first_hand, newer
@@ -51,9 +50,15 @@ def need_word(is_so):
 def value_read(kind, word):
     if kind == "number":
         return int(word)
-    if (kind == "row" and not is_row_word(word)) or (kind == "letter" and not is_small_letter(word)):
-        raise NoText("this is not written as a row or a letter is")
-    return row_read(word) if kind == "row" else word
+    # What is no letter is left to the hands to refuse, as a torn machine is refused ahead of it.
+    return row_told(word) if kind == "row" else word
+
+
+def row_told(word):
+    # Left to the functions, a word without signs would be the row without letters, which is written otherwise.
+    if not is_row_word(word):
+        raise NoRow("this is not written as a row is")
+    return row_read(word)
 
 
 def answer_house(desk, values):

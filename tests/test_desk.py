@@ -46,22 +46,26 @@ NO_WORDS = [
 ]
 
 NO_TEXTS = [
-    "lets A", "lets a1", "lets 0", "lets --", "lets -a", "lets ", "lets a-b", "lets {", "alike a B", "alike A b",
-    "alike - 0", "alike a ", "alike  a", "steps A", "steps ", "orders a,b", "orders ", "parts 1", "parts ", "do A", "do ab",
-    "do -", "do 0", "do ", "do aa", "set ", "set  ", "set  row a", "set row", "set row a ", "set row A", "set a",
-    "set either row a", "set not", "set row a row b", "set Row a", "set -", "set row a1", "house\na 0", "house\nhands",
-    "house\nhands 2\n", "house\nhands 02\na 0", "house\n hands 2\na 0", "house\nhands 2\nab 0", "house\n\nhands 2\na 0",
-    "house\nhands 2\nA 0", "house\nhands 2\na 0 ", "house\n ", "house\n\n", "machine\n" + HOUSE_TEXT,
-    "machine\nroom 0 0 0", "machine\nroom 0 0 0\n", "machine\nroom 0 0 00\ngood", "machine\n\n" + ONE_ROOM,
-    "machine\n ", "machine\ngood\ngood", "house\n" + ONE_ROOM, "machine\nroom 0 0 0\ngood ",
+    "set ", "set  ", "set  row a", "set row", "set row ", "set row a ", "set row A", "set row _a", "set row --", "set a",
+    "set again a-", "set either row a", "set not", "set row a row b", "set Row a", "set -", "set row a1", "house\na 0",
+    "house\nhands", "house\nhands 2\n", "house\nhands 02\na 0", "house\n hands 2\na 0", "house\nhands 2\nab 0",
+    "house\n\nhands 2\na 0", "house\nhands 2\nA 0", "house\nhands 2\na 0 ", "house\n ", "house\n\n",
+    "machine\n" + HOUSE_TEXT, "machine\nroom 0 0 0", "machine\nroom 0 0 0\n", "machine\nroom 0 0 00\ngood",
+    "machine\n\n" + ONE_ROOM, "machine\n ", "machine\ngood\ngood", "house\n" + ONE_ROOM, "machine\nroom 0 0 0\ngood ",
 ]
+
+# Words that are no rows of the desk's first house, and no letters of it; "" is a blank with nothing behind it.
+NO_ROWS = [
+    "", "A", "aB", "a1", "0", "12", "_a", "a_", "--", "-a", "a-", "a-b", "{", "`", "?", "a,b", "a.", "'a'", "d",
+    "abd", "z", "xyz", "Z" * 40,
+]
+NO_LETTERS = NO_ROWS + ["-", "aa", "ab", "abc"]
 
 # What the functions refuse, of the desk as it is at first.
 REFUSED = [
-    ("lets d", NoRow), ("lets abd", NoRow), ("alike a d", NoRow), ("alike d a", NoRow), ("steps z", NoRow),
-    ("orders xyz", NoRow), ("parts ad", NoRow), ("do d", NoRow), ("do z", NoRow), ("news 2", NoHand), ("news 4", NoHand),
-    ("news " + "9" * 40, NoHand), ("newer 2 0 0", NoHand), ("newer 0 2 0", NoHand), ("newer 0 0 2", NoHand),
-    ("newer 0 1 99", NoHand), ("house\nhands 1\na 0", NoHouse), ("house\nhands 2", NoHouse), ("house\nhands 2\na", NoHouse),
+    ("news 2", NoHand), ("news 4", NoHand), ("news " + "9" * 40, NoHand), ("newer 2 0 0", NoHand),
+    ("newer 0 2 0", NoHand), ("newer 0 0 2", NoHand), ("newer 0 1 99", NoHand),
+    ("house\nhands 1\na 0", NoHouse), ("house\nhands 2", NoHouse), ("house\nhands 2\na", NoHouse),
     ("house\nhands 2\nb 0\na 0", NoHouse), ("machine\ngood", NoMachine), ("machine\nroom\ngood", NoMachine),
     ("machine\nroom 0 0\ngood", NoMachine), ("machine\nroom 0 0 1\ngood", NoMachine), ("set row d", NoSet),
     ("set again abcab", NoSet), ("set " + "not " * 12 + "row a", NoSet), ("set " + "not " * 900 + "row a", NoSet),
@@ -163,11 +167,11 @@ class TestAnswers(DeskCase):
             ("show", HOUSE_TEXT + "\n" + show_machine(HOUSE, A_AHEAD)), ("steps ba", "ab"), ("parts ab", "a b"),
             ("least", show_machine(HOUSE, least(HOUSE, A_AHEAD))), ("orders ab", "2"),
         ])
-        for row in ["do a", "do z", "news 0", "news 9", "newer 0 1 0", "newer 7 8 9", "room", "table"]:
+        for row in ["do a", "do z", "do ab", "do ?", "news 0", "news 9", "newer 0 1 0", "newer 7 8 9", "room", "table"]:
             error = self.refuses(desk, row, Torn)
             self.assertEqual((error.row, error.place), ("ab", 0))
-        for row, kind in [("do A", NoText), ("do ab", NoText), ("news x", NoWord), ("newer 0 1", NoWord), ("table ", NoWord)]:
-            self.refuses(desk, row, kind)
+        for row in ["do", "do a b", "do ? a", "do A\na", "news x", "newer 0 1", "table "]:
+            self.refuses(desk, row, NoWord)
         self.says(desk, [(UNTORN_TEXT, "ok"), ("room", "0 bad"), ("do a", "a 0"), ("room", "1 bad")])
 
     def test_torn_of_many_rooms_and_late(self):
@@ -294,6 +298,35 @@ class TestRefusals(DeskCase):
             for row in NO_TEXTS:
                 self.refuses(desk, row, NoText)
 
+    def test_no_row(self):
+        for desk in self.desks():
+            for word in NO_ROWS:
+                for first in ["lets ", "steps ", "orders ", "parts ", "alike a ", "alike - "]:
+                    self.refuses(desk, first + word, NoRow)
+                for other in [" a", " -", " ?", " d", " "]:
+                    self.refuses(desk, "alike " + word + other, NoRow)
+
+    def test_no_letter(self):
+        for desk in self.desks()[:2]:
+            for word in NO_LETTERS:
+                self.refuses(desk, "do " + word, NoRow)
+
+    def test_torn_is_ahead_of_no_letter(self):
+        desk = told([TORN_TEXT])
+        for word in NO_LETTERS:
+            error = self.refuses(desk, "do " + word, Torn)
+            self.assertEqual((error.row, error.place), ("ab", 0))
+
+    def test_rows_and_letters_are_those_of_the_house_on_the_desk(self):
+        desk = told(["house\nhands 3\nd 0\nx 1 2"])
+        self.says(desk, [("lets dx", "yes"), ("alike dx xd", "yes"), ("do x", "x 0"), ("do d", "d 0")])
+        for row in [
+            "lets a", "lets dxa", "alike d a", "alike b x", "steps c", "orders ab", "parts ca", "do a", "do dx", "do -",
+        ]:
+            with self.assertRaises(NoRow, msg=row):
+                desk.say(row)
+        self.says(desk, [("do x", "x 1"), ("news 1", "- x1 x1")])
+
     def test_what_the_functions_refuse(self):
         for desk in self.desks()[:2]:
             for row, kind in REFUSED:
@@ -305,7 +338,7 @@ class TestRefusals(DeskCase):
             hands_asked = row.split(" ")[0] in ["do", "news", "newer"]
             self.refuses(desk, row, Torn if hands_asked else kind)
 
-    def test_no_word_is_ahead_of_no_text(self):
+    def test_no_word_is_ahead_of_no_text_and_no_row(self):
         for row in [
             "lets A B", "alike A", "do A b", "do ab\nx", "set row\nx", "set \nx", "lets A\nx", "news A", "newer A 0",
             "house 1\nhands", "machine 1\nroom", "steps A\n1", "newer 0 1 A",
@@ -317,7 +350,7 @@ class TestRefusals(DeskCase):
             self.refuses(Desk(), row, NoWord)
 
     def test_no_text_is_ahead_of_what_the_functions_refuse(self):
-        for row in ["alike d A", "alike A d", "set either row d row A", "set again ab row", "house\nhands 9\nA 0"]:
+        for row in ["set either row d row A", "set again ab row", "house\nhands 9\nA 0", "machine\nroom 9\ngood 01"]:
             self.refuses(Desk(), row, NoText)
 
     def test_the_row_that_falls(self):
